@@ -1,0 +1,1 @@
+"""Bitebar: bars of pieces from which hands bite corners off by turns."""
