@@ -22,8 +22,7 @@ def check_bar(bar):
         raise NoBar("a bar is 1 to 5 rows of 1 to 5 pieces, none longer than the one ahead")
 
 
-def bites(bar):
-    check_bar(bar)
+def places_of_bites(bar):
     places = []
     for row, pieces in enumerate(bar):
         places.extend([(row, column) for column in range(pieces)])
@@ -31,13 +30,22 @@ def bites(bar):
     return places[1:]
 
 
+def left_behind(bar, row, column):
+    cut = [min(pieces, column) for pieces in bar[row:]]
+    return bar[:row] + [pieces for pieces in cut if pieces > 0]
+
+
+def bites(bar):
+    check_bar(bar)
+    return places_of_bites(bar)
+
+
 def bitten(bar, row, column):
     # Asking for the bites first lets NoBar come ahead of NoBite, and keeps
     # numbers below nought from being taken as places counted from the end.
     if (row, column) not in bites(bar):
         raise NoBite("a bite is told by a piece of the bar that is not the bad one")
-    cut = [min(pieces, column) for pieces in bar[row:]]
-    return bar[:row] + [pieces for pieces in cut if pieces > 0]
+    return left_behind(bar, row, column)
 
 
 def pieces_in_column(bar, column):
